@@ -1,0 +1,1 @@
+"""Ringvoices: which few voices tell a row on rings."""

@@ -1,0 +1,87 @@
+"""What several tests need: wrong values, and calls with wrong values in every place."""
+
+import copy
+import itertools
+
+
+class Stranger:
+    """An object that is of no kind that the package knows."""
+
+    def __deepcopy__(self, memo):
+        return self
+
+
+STRANGER = Stranger()
+
+NOTHINGS = [None, True, False, "", "ab", "0 1\n2", [], {}, [0], {0: 1}, {"a": (1,)}, STRANGER, (None,), ("",), ([],),
+            ({},), (STRANGER,), ((),), ((((((((((((1,),),),),),),),),),),),), tuple(range(2000)), [[0], [1]]]
+
+NOT_INTEGERS = NOTHINGS + [(), (0,), (1, 2), "1", 1.0]
+
+NOT_RINGS = NOTHINGS + [(), 0, 6, (0,), (1,), (-2,), (61,), (True,), (2, True), (True, 2), (2, 1), (1, 2), (2, 0),
+                        (-2, -3), (2, -3, -1), (7, 9), (2, 2, 2, 8), (2, 2, 2, 2, 2), (2, 2, 2, 2, 2, 2), [2, 3],
+                        (2, [3]), (2, (3,)), (2, "3"), (2, None), (10 ** 100,), (10 ** 99, 2), (2, 3.0), "23"]
+
+# For the rings (2, 3).
+NOT_PLACES = NOTHINGS + [(), 0, 4, (0,), (0, 0, 0), (2, 0), (0, 3), (-1, 0), (0, -1), (1, -3), (10 ** 100, 0), [0, 0],
+                         [1, 2], (True, 0), (0, True), (False, 2), (1, False), "00", (0, "0"), (0, None), (0, [0]),
+                         ([0], 0), (0, (0,)), ((0, 0),), (0, 0.0), {0: 0, 1: 0}]
+
+# For the rings (2, 3).
+NOT_LOTS = NOTHINGS[:17] + [0, (0,), (0, 0), ((0,),), ((0, 1), (0, 0)), ((0, 0), (0, 0)), ((0, 0), (1, 0), (0, 1)),
+                            ((0, 0), (0, 1), (0, 1)), ((1, 2), (1, 2)), [(0, 0)], [(0, 0), (0, 1)], [[0, 0]],
+                            ([0, 0],), ((0, 0), [0, 1]), ([0, 0], (0, 1)), ((0, 0), None), (None, (0, 0)),
+                            ((0, 0), "01"), ((0, 0), (0, 3)), ((0, 0), (2, 0)), ((-1, 0), (0, 0)), ((False, 0),),
+                            ((0, 0), (0, True)), ((0, 0), (True, 0)), ((0, 0), (1,)), ((0, 0), (1, 0, 0)), ("00",),
+                            ((0, 0), ((1, 0),)), ((0, 0), {0: 1}), "ab", {(0, 0): True}]
+
+NOT_ORDERS = NOT_INTEGERS + [0, -1, -60, 61, 120, 10 ** 100]
+
+# For the order 4.
+NOT_NUMBERS = NOTHINGS + [0, 1, (), (1,), (1, 1), ((1, 1),), ((1, 1), 1, 1), (1, (1, 1)), ((1,), 1), ((1, 1, 1), 1),
+                          ((), 1), ((0, 0), 2), ((0, 0), 0), ((0, 0), -1), ((1, 1), 0), ((1, 1), -1), ((-1, -1), -1),
+                          ((2, 4), 2), ((3, 0), 3), ((0, 6), 9), ((2 * 10 ** 39, 10), 2), ((1, 1), True),
+                          ((True, 0), 1), ((0, False), 1), ((1, True), 2), [(1, 1), 1], ([1, 1], 1), ((1, [1]), 1),
+                          ((1, (1,)), 1), ((1, "1"), 1), ((1, None), 1), ((1, 1), None), ((1, 1), "1"),
+                          ((1, 1), (1,)), ((1, 1), [1]), ((1, 1.0), 1), "11", ("11", 1), {0: (1, 1), 1: 1}]
+
+
+def same(one, other):
+    """Whether two values are alike in everything, 1 and True being unlike."""
+    return repr(one) == repr(other) and one == other
+
+
+def assert_raises(test, error, name, value, call):
+    """The call raises just this error, with the very value as its attribute."""
+    with test.assertRaises(error) as caught:
+        call()
+    test.assertIs(caught.exception.__class__, error)
+    test.assertEqual(list(vars(caught.exception)), [name])
+    test.assertIs(getattr(caught.exception, name), value)
+
+
+def check_wrongs(test, function, parameters):
+    """Each parameter is (name, a right value, wrong values, its error): all wrong ones, and all sets of wrong ones."""
+    names = [name for name, _, _, _ in parameters]
+    right = [good for _, good, _, _ in parameters]
+    function(*right)
+    test.assertTrue(same(function(**dict(zip(names, right))), function(*right)))
+    for at, (_, _, wrongs, error) in enumerate(parameters):
+        for wrong in wrongs:
+            values = right[:at] + [wrong] + right[at + 1:]
+            check_first(test, function, names, values, wrong, error)
+    for wrong_ones in itertools.product((False, True), repeat=len(parameters)):
+        for seed in range(5 if any(wrong_ones) else 0):
+            values = [wrongs[seed * 7 % len(wrongs)] if is_wrong else good
+                      for is_wrong, (_, good, wrongs, _) in zip(wrong_ones, parameters)]
+            first = wrong_ones.index(True)
+            check_first(test, function, names, values, values[first], parameters[first][3])
+
+
+def check_first(test, function, names, values, wrong, error):
+    """The call raises this error with this value, however it is passed, and changes none of the values."""
+    kept = copy.deepcopy(values)
+    with test.subTest(function=function.__name__, values=values):
+        assert_raises(test, error, "thing", wrong, lambda: function(*values))
+        assert_raises(test, error, "thing", wrong, lambda: function(**dict(zip(names, values))))
+        test.assertTrue(same(values, kept))
