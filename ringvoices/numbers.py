@@ -2,10 +2,10 @@
 
 from math import gcd
 
+from ringvoices.divisors import units_of
 from ringvoices.errors import BadCount, BadItems, BadNumber, BadOrder, Nought
 from ringvoices.kinds import is_integer, is_integers
-from ringvoices.places import units_of
-from ringvoices.turns import lowered, multiplied, polynomial_of, reduced, spread
+from ringvoices.turns import completed, exchanged_tops, lowered, multiplied, polynomial_of, reduced, spread
 
 MOST_ORDER = 60
 MOST_ITEMS = 60
@@ -100,23 +100,10 @@ def inverse(order, number):
     """The number whose product with a number is 1."""
     check_number(order, number)
     tops, bottom = number
-    others, whole = _completed(order, tops)
+    others, whole = completed(tops, order, polynomial_of(order))
     if whole == 0:
         raise Nought()
     return lowered([bottom * other for other in others], whole)
-
-
-def _completed(order, tops):
-    """The product of all but the first that tops are exchanged to, and the integer that comes of tops times it."""
-    polynomial = polynomial_of(order)
-    others = turn(order, 0)[0]
-    for j in units_of(order)[1:]:
-        others = multiplied(others, _exchanged_tops(order, tops, j), polynomial)
-    return others, multiplied(tops, others, polynomial)[0]
-
-
-def _exchanged_tops(order, tops, j):
-    return reduced(spread(tops, order, j), polynomial_of(order))
 
 
 def exchanged(order, number, j):
@@ -126,14 +113,14 @@ def exchanged(order, number, j):
         raise BadCount(j)
     tops, bottom = number
     # An exchange can be taken back: nothing above 1 divides what it gives.
-    return _exchanged_tops(order, tops, j), bottom
+    return exchanged_tops(tops, order, j, polynomial_of(order)), bottom
 
 
 def norm(order, number):
     """The fraction that is the product of all that a number is exchanged to."""
     check_number(order, number)
     tops, bottom = number
-    _, whole = _completed(order, tops)
+    _, whole = completed(tops, order, polynomial_of(order))
     return _fraction(whole, _own_product(bottom, len(tops)))
 
 
@@ -153,9 +140,10 @@ def trace(order, number):
     """The fraction that is the sum of all that a number is exchanged to."""
     check_number(order, number)
     tops, bottom = number
+    polynomial = polynomial_of(order)
     total = 0
     for j in units_of(order):
-        total += _exchanged_tops(order, tops, j)[0]
+        total += exchanged_tops(tops, order, j, polynomial)[0]
     return _fraction(total, bottom)
 
 
@@ -163,7 +151,7 @@ def loudness(order, number):
     """The product of a number with itself turned about."""
     check_number(order, number)
     tops, bottom = number
-    return _product(order, number, (_exchanged_tops(order, tops, -1), bottom))
+    return _product(order, number, (exchanged_tops(tops, order, -1, polynomial_of(order)), bottom))
 
 
 def lifted(order, number, other):

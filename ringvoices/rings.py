@@ -1,10 +1,9 @@
 """Rings, places and lots."""
 
-from math import lcm
-
+from ringvoices.divisors import units_of
 from ringvoices.errors import BadCount, BadLot, BadPlace, BadRings
 from ringvoices.kinds import is_ascending, is_integer, is_integers
-from ringvoices.places import added, list_places, paired, repeated, units_of
+from ringvoices.places import added, common_order, kin_of, list_places, paired, repeated
 
 MOST_RINGS = 4
 MOST_PLACES = 60
@@ -65,10 +64,7 @@ def size_of(rings):
 def order_of(rings):
     """The least common multiple of the lengths."""
     check_rings(rings)
-    order = 1
-    for length in rings:
-        order = lcm(order, length)
-    return order
+    return common_order(rings)
 
 
 def all_places(rings):
@@ -151,7 +147,7 @@ def classes(rings):
     found = []
     for label in list_places(rings):
         if label not in told:
-            kin = sorted({repeated(rings, label, j) for j in units})
+            kin = kin_of(rings, units, label)
             found.append(tuple(kin))
             for one in kin:
                 told.add(one)

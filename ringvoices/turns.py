@@ -2,24 +2,18 @@
 
 from math import gcd
 
+from ringvoices.divisors import primes_of, units_of
+
 
 def polynomial_of(order):
     """The ring polynomial of an order, the integer of the power 0 first."""
     polynomial = [-1, 1]
     left = order
-    for prime in _primes_of(order):
+    for prime in primes_of(order):
         polynomial, _ = _divided(_stretched(polynomial, prime), polynomial)
         left = left // prime
     # A prime that divides the order again only spreads the powers.
     return tuple(_stretched(polynomial, left))
-
-
-def _primes_of(order):
-    primes = []
-    for k in range(2, order + 1):
-        if order % k == 0 and all([k % prime != 0 for prime in primes]):
-            primes.append(k)
-    return primes
 
 
 def _stretched(items, by):
@@ -64,6 +58,19 @@ def spread(tops, many, step):
     for k, top in enumerate(tops):
         items[k * step % many] += top
     return items
+
+
+def exchanged_tops(tops, order, j, polynomial):
+    """The tops in which the turn to the power j stands for the turn."""
+    return reduced(spread(tops, order, j), polynomial)
+
+
+def completed(tops, order, polynomial):
+    """The product of all but the first that tops are exchanged to, and the integer that comes of tops times it."""
+    others = reduced([1], polynomial)
+    for j in units_of(order)[1:]:
+        others = multiplied(others, exchanged_tops(tops, order, j, polynomial), polynomial)
+    return others, multiplied(tops, others, polynomial)[0]
 
 
 def lowered(tops, bottom):

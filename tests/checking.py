@@ -45,6 +45,37 @@ NOT_NUMBERS = NOTHINGS + [0, 1, (), (1,), (1, 1), ((1, 1),), ((1, 1), 1, 1), (1,
                           ((1, (1,)), 1), ((1, "1"), 1), ((1, None), 1), ((1, 1), None), ((1, 1), "1"),
                           ((1, 1), (1,)), ((1, 1), [1]), ((1, 1.0), 1), "11", ("11", 1), {0: (1, 1), 1: 1}]
 
+# For the rings (2, 3), of the order 6.
+RIGHT_ROW = (((0, 0), 1), ((1, 0), 1), ((-1, 2), 3), ((0, 5), 2), ((7, 7), 3), ((-1, 0), 1))
+
+NOT_ROWS = NOTHINGS + [0, (), (0, 0, 0, 0, 0, 0), (1, 2, 3, 4, 5, 6), list(RIGHT_ROW), RIGHT_ROW[:-1],
+                       RIGHT_ROW + RIGHT_ROW[:1], RIGHT_ROW[0], (RIGHT_ROW,), dict(enumerate(RIGHT_ROW))]
+NOT_ROWS += [RIGHT_ROW[:at] + (wrong,) + RIGHT_ROW[at + 1:] for at in (0, 3, 5) for wrong in (
+    None, 0, "1", (), [(0, 0), 1], ([0, 0], 1), ((0, 0), 2), ((0, 0), 0), ((0,), 1), ((0, 0, 0), 1), ((2, 4), 2),
+    ((1, 0), -1), ((True, 0), 1), ((0, False), 1), ((1, 0), True), ((1, 0), "1"), ((0, 0), 1, 1), ((0, 0),),
+    ((1, 1.0), 1), ((0, 0), None), (((0, 0), 1),))]
+
+RIGHT_WHOLE = (0, 1, -2, 10 ** 12 - 1, 0, 1)
+
+NOT_WHOLES = NOTHINGS + [0, (), list(RIGHT_WHOLE), RIGHT_WHOLE[:-1], RIGHT_WHOLE + (0,), (RIGHT_WHOLE,), RIGHT_ROW,
+                         dict(enumerate(RIGHT_WHOLE)), "000000", ((0, 0, 0), (0, 0, 0)), (0,) * 5, (0,) * 7]
+NOT_WHOLES += [RIGHT_WHOLE[:at] + (wrong,) + RIGHT_WHOLE[at + 1:] for at in (0, 3, 5)
+               for wrong in (None, True, False, "1", "", (), (1,), [1], {}, 1.0, ((1, 0), 1))]
+
+# For a size of 6.
+NOT_COUNTS = NOT_INTEGERS + [0, -1, 7, 8, 60, -10 ** 99, 10 ** 99]
+
+# None of these is a certificate of anything.
+NOT_CERTIFICATES = NOTHINGS + [(), 0, ("undone",), ("silent",), ("voice",), ("row",), ("place",), ("label",), "undone",
+                               ("undone", None), ("silent", None), ("row", None), ("undone", ()), ("silent", ()),
+                               ("row", ()), ("undone", []), ("silent", 0), ("silent", [0]), ("row", {}),
+                               ("voice", None, None), ("voice", (), 0), ("voice", 0, 0), ("voice", (0, 0), "0"),
+                               ("place", None, None), ("label", None, None), ("place", (), ()), ("label", (), ()),
+                               ("place", [], []), ("label", 0, ()), (None, None), (None, None, None), (1, 2), (0, 0, 0),
+                               ({}, []), ([], {}, ()), (STRANGER, STRANGER), (STRANGER,) * 3, ["silent", (0, 0)],
+                               ("silent", (0, 0), 1), ("silent", ((0, 0),)), ("tells",), ("none",), ("told",),
+                               ("row", (), ()), ("undone", (0, 0), 0), ("silent", (0, True)), ("silent", [0, 0])]
+
 
 def same(one, other):
     """Whether two values are alike in everything, 1 and True being unlike."""
@@ -58,6 +89,24 @@ def assert_raises(test, error, name, value, call):
     test.assertIs(caught.exception.__class__, error)
     test.assertEqual(list(vars(caught.exception)), [name])
     test.assertIs(getattr(caught.exception, name), value)
+
+
+def check_wrongs_beside(test, function, parameters):
+    """The same for a function that takes any thing behind these parameters: the thing hides no error."""
+    for thing in (None, (), ("silent", (0, 0)), [{}], RIGHT_ROW):
+        def with_thing(*values, **named):
+            return function(*values, **named, thing=thing)
+        check_wrongs(test, with_thing, parameters)
+
+
+def check_any_value(test, function, values, more=()):
+    """The function takes any thing behind these values, and answers False to each that is none."""
+    for thing in [*NOT_CERTIFICATES, *more]:
+        kept = copy.deepcopy(thing)
+        with test.subTest(function=function.__name__, thing=thing):
+            test.assertIs(function(*values, thing), False)
+            test.assertIs(function(*values, thing=thing), False)
+            test.assertTrue(same(thing, kept))
 
 
 def check_wrongs(test, function, parameters):

@@ -20,6 +20,39 @@ NUMBERS = """
 [((1, 1), 1), ((0, 1), 1), ((1, -1), 2), ((0, 0, 1, 0), 1), (2, 1), (-1, 1), ((25, 0), 1), ((5, 0), 3), ((-1, 1), 1)]
 """
 
+VOICES = """
+>>> from ringvoices.voices import filled, row_back, row_of, sounding, voice, voices, whole_of
+>>> PAIR = row_of((6,), (1, 0, 0, 1, 0, 0))
+>>> [PAIR[:2], voice((6,), PAIR, (2,)), filled((6,), PAIR), sounding((6,), PAIR), whole_of((6,), voices((6,), PAIR)), row_back((6,), voices((6,), PAIR)) == PAIR]
+[(((1, 0), 1), ((0, 0), 1)), ((2, 0), 1), ((0,), (3,)), ((0,), (2,), (4,)), (2, 0, 2, 0, 2, 0), True]
+"""
+
+MIXING = """
+>>> from ringvoices.mixing import judge_undone, judge_whole, mirrored, mixed, moved, power, single, undone_holds, whole_holds
+>>> from ringvoices.voices import row_of, whole_of
+>>> STEP = row_of((5,), (1, 1, 0, 0, 0))
+>>> [whole_of((5,), mixed((5,), STEP, STEP)), whole_of((5,), moved((5,), STEP, (4,))), whole_of((5,), mirrored((5,), STEP)), whole_of((5,), power((5,), STEP, 3)), whole_of((2, 2), single((2, 2)))]
+[(1, 2, 1, 0, 0), (1, 0, 0, 0, 1), (1, 0, 0, 0, 1), (1, 3, 3, 1, 0), (1, 0, 0, 0)]
+>>> [judge_undone((6,), row_of((6,), (1, 0, 0, 1, 0, 0)))[0], judge_whole((5,), (1, 1, 0, 0, 0)), judge_whole((5,), (-1, 1, 0, 0, 1)), whole_holds((5,), (1, 1, 0, 0, 0), ("voice", (1,), 1))]
+['silent', ('voice', (0,), 16), ('undone', (-1, 0, 1, 1, 0)), False]
+"""
+
+SILENCE = """
+>>> from ringvoices.silence import class_sum, row_with_silent, whole_with_silent, are_classes
+>>> from ringvoices.voices import filled, row_of, sounding
+>>> [sounding((4,), row_with_silent((4,), ((1,),))), class_sum((6,), (1,), (2,)), class_sum((6,), (2,), (3,)), are_classes((6,), ((1,), (5,))), whole_with_silent((6,), ((1,),)), sounding((6,), row_of((6,), whole_with_silent((6,), ((0,), (1,), (5,)))))]
+[((0,), (2,), (3,)), -1, 2, True, None, ((2,), (3,), (4,))]
+"""
+
+LOWEST = """
+>>> from ringvoices.voices import filled, row_of, sounding
+>>> from ringvoices.lowest import judge_pair, least, least_row, pair_holds, room
+>>> [[least((6,), k) for k in (1, 2, 3, 4, 5, 6)], [least((2, 4), k) for k in (2, 3, 4)], least((7,), 3), least((60,), 12), len(sounding((6,), least_row((6,), 2))), room((5,), ((0,), (1,), (2,)), ((0,), (1,), (2,))), room((6,), ((0,), (3,)), ((0,), (2,), (4,)))]
+[[6, 3, 2, 2, 2, 1], [4, 4, 2], 5, 5, 3, 1, 1]
+>>> [judge_pair((5,), ((0,), (1,)), ((0,), (1,), (2,)))[0] in ('place', 'label'), judge_pair((5,), ((0,), (1,), (2,)), ((0,), (1,), (2,)))[0], pair_holds((2,), ((0,),), ((0,),), ('place', (0,), (((1,), 1),))), pair_holds((4,), ((0,), (2,)), ((0,), (2,)), ('row', row_of((4,), (5, 0, 5, 0)))), judge_pair((2,), (), ((0,),))[0]]
+[True, 'row', True, True, 'label']
+"""
+
 
 class Examples(unittest.TestCase):
 
@@ -35,10 +68,22 @@ class Examples(unittest.TestCase):
     def test_numbers(self):
         self.run_examples(NUMBERS, 3)
 
+    def test_voices(self):
+        self.run_examples(VOICES, 3)
+
+    def test_mixing(self):
+        self.run_examples(MIXING, 5)
+
+    def test_silence(self):
+        self.run_examples(SILENCE, 3)
+
+    def test_lowest(self):
+        self.run_examples(LOWEST, 4)
+
     def test_readme(self):
         readme = pathlib.Path(__file__).resolve().parent.parent / "README.md"
         # Outside of the fences no line is an example.
-        self.run_examples("\n".join(readme.read_text(encoding="utf-8").split("```")[1::2]), 10)
+        self.run_examples("\n".join(readme.read_text(encoding="utf-8").split("```")[1::2]), 22)
 
 
 if __name__ == "__main__":

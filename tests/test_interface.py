@@ -17,6 +17,25 @@ FUNCTIONS = {
         "inverse": "order number", "exchanged": "order number j", "norm": "order number", "trace": "order number",
         "loudness": "order number", "lifted": "order number other",
     },
+    "ringvoices.voices": {
+        "is_row": "rings thing", "is_whole": "rings thing", "row_of": "rings whole", "whole_of": "rings row",
+        "voice": "rings row label", "voices": "rings row", "row_back": "rings row", "filled": "rings row",
+        "sounding": "rings row",
+    },
+    "ringvoices.mixing": {
+        "mixed": "rings one other", "single": "rings", "moved": "rings row place", "mirrored": "rings row",
+        "turned_row": "rings row", "power": "rings row n", "judge_undone": "rings row",
+        "undone_holds": "rings row thing", "judge_whole": "rings whole", "whole_holds": "rings whole thing",
+    },
+    "ringvoices.silence": {
+        "row_with_silent": "rings labels", "whole_with_silent": "rings labels", "are_classes": "rings labels",
+        "class_sum": "rings label place",
+    },
+    "ringvoices.lowest": {
+        "least": "rings k", "least_row": "rings k", "room": "rings places labels", "base_of": "rings places labels",
+        "is_base": "rings places labels thing", "judge_pair": "rings places labels",
+        "pair_holds": "rings places labels thing",
+    },
 }
 
 

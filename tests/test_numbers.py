@@ -1,6 +1,5 @@
 """Numbers of turns, against their images modulo one prime at which all turns can be told."""
 
-import functools
 import itertools
 import math
 import random
@@ -10,59 +9,10 @@ from ringvoices.errors import BadCount, BadItems, BadNumber, BadOrder, Nought
 from ringvoices.numbers import (exchanged, inverse, is_number, lifted, loudness, minus, norm, number_of, plus,
                                 ring_polynomial, times, trace, turn)
 from tests.checking import (NOT_INTEGERS, NOT_NUMBERS, NOT_ORDERS, NOTHINGS, assert_raises, check_wrongs, same)
+from tests.oracle import ALL, FIRST, PRIME, fraction, image, images, units, whole, zero
 
 ORDERS = range(1, 61)
 SMALL_ORDERS = range(1, 17)
-ALL = math.lcm(*ORDERS)
-
-
-def is_prime(n):
-    """A test for odd numbers that lets no other ones through that matter here."""
-    twos = ((n - 1) & (1 - n)).bit_length() - 1
-    for base in (2, 3, 5, 7, 11, 13, 17, 19, 23, 29, 31, 37, 41, 43):
-        powers = [pow(base, (n - 1) >> twos << k, n) for k in range(twos)]
-        if powers[0] != 1 and n - 1 not in powers:
-            return False
-    return True
-
-
-PRIME = next(k * ALL + 1 for k in itertools.count(1) if is_prime(k * ALL + 1))
-FIRST = next(root for root in (pow(base, (PRIME - 1) // ALL, PRIME) for base in itertools.count(2))
-             if all(pow(root, ALL // p, PRIME) != 1 for p in (2, 3, 5, 7, 11, 13, 17, 19, 23, 29, 31, 37, 41, 43, 47,
-                                                              53, 59)))
-
-
-def units(order):
-    return [j for j in range(1, order + 1) if math.gcd(j, order) == 1]
-
-
-@functools.lru_cache(maxsize=None)
-def powers(order, j):
-    root = pow(FIRST, ALL // order * j, PRIME)
-    return [pow(root, i, PRIME) for i in range(60)]
-
-
-def image(order, items, bottom, j=1):
-    """What the sum of items[i] times z to the power i, divided by bottom, is modulo the prime, z exchanged by j."""
-    known = powers(order, j % order)
-    return sum(item * known[i] for i, item in enumerate(items)) * pow(bottom, -1, PRIME) % PRIME
-
-
-def images(order, number):
-    return [image(order, *number, j) for j in units(order)]
-
-
-def zero(order):
-    return (0,) * len(units(order)), 1
-
-
-def whole(order, top):
-    return (top,) + (0,) * (len(units(order)) - 1), 1
-
-
-def fraction(order, top, bottom):
-    """The pair (top, bottom) as a number."""
-    return (top,) + (0,) * (len(units(order)) - 1), bottom
 
 
 def some_numbers(order, many=4, digits=6):
