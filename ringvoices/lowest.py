@@ -3,6 +3,7 @@
 from ringvoices.divisors import primes_of
 from ringvoices.errors import BadCount
 from ringvoices.floors import Floor
+from ringvoices.images import are_seen_apart
 from ringvoices.kinds import is_integer
 from ringvoices.numbers import is_number
 from ringvoices.rings import check_lot, is_place, size_of
@@ -102,7 +103,10 @@ def is_base(rings, places, labels, thing):
         return False
     if not all([is_row(rings, row) and _is_within(rings, row, places, labels) for row in thing]):
         return False
-    return len(stepped(Floor(rings), [levelled(row)[0] for row in thing])) == many
+    floor = Floor(rings)
+    lines = [levelled(row)[0] for row in thing]
+    # Steps of great integers would take long: mostly the images are enough.
+    return are_seen_apart(floor.order, lines) or len(stepped(floor, lines)) == many
 
 
 def _is_within(rings, row, places, labels):

@@ -249,6 +249,26 @@ class Bases(unittest.TestCase):
                     great = tuple(times(order, number_of(order, (10 ** 50, 3), 7), item) for item in base[0])
                     self.assertIs(is_base(rings, places, labels, (great,) + base[1:]), True)
 
+    def test_great_integers(self):
+        for rings in [(5,), (8,), (12,), (2, 6)]:
+            every, order, dice = all_places(rings), order_of(rings), random.Random(f"{rings}")
+            base = [tuple(random_number(order, dice, 99, 99) for _ in every) for _ in every]
+            self.assertIs(is_base(rings, every, every, tuple(base)), True)
+            self.assertIs(is_base(rings, every, every, (base[0],) * len(every)), False)
+
+    def test_multiples_of_a_prime(self):
+        # Modulo the prime all of these are alike or zeros, but they are no less a base.
+        for prime in (2, 3, 61, PRIME, 10 ** 99):
+            for rings in [(2,), (3,), (2, 2), (6,)]:
+                every, order = all_places(rings), order_of(rings)
+                rows = [row_of(rings, tuple(prime if at == k else 0 for at in range(len(every)))) for k in range(len(every))]
+                self.assertIs(is_base(rings, every, every, tuple(rows)), True)
+                rows = [row_of(rings, (1,) + tuple(prime if at == k else 0 for at in range(1, len(every))))
+                        for k in range(len(every))]
+                self.assertIs(is_base(rings, every, every, tuple(rows)), True)
+                rows[0] = tuple(times(order, number_of(order, (0, prime), 7), item) for item in rows[1])
+                self.assertIs(is_base(rings, every, every, tuple(rows)), False)
+
     def test_rows_that_are_not_within(self):
         self.assertIs(is_base((4,), ((0,),), all_places((4,)), (row_of((4,), (1, 0, 0, 0)),)), True)
         self.assertIs(is_base((4,), ((0,),), all_places((4,)), (row_of((4,), (0, 1, 0, 0)),)), False)
