@@ -12,9 +12,18 @@ def others_of(floor, lot):
 
 def lines_within(floor, places, labels):
     """A base of the rows within: lines of the tops of their items at the places."""
+    return silent_lines(floor, places, others_of(floor, labels))
+
+
+def silent_lines(floor, places, labels):
+    """A base of the rows that are filled at these places alone, and silent with these labels: lines as above."""
+    return nullifying(floor, bars_of(floor, places, labels), len(places))
+
+
+def bars_of(floor, places, labels):
+    """A line for each label: the tops of the turns by which its voice takes the items at the places."""
     turns = floor.tops_of_turns()
-    bars = [[turns[floor.pairing_of(place, label)] for place in places] for label in others_of(floor, labels)]
-    return nullifying(floor, bars, len(places))
+    return [[turns[floor.pairing_of(place, label)] for place in places] for label in labels]
 
 
 def row_with(floor, places, line):

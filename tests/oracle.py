@@ -139,6 +139,34 @@ def rank(order, lines):
     return found
 
 
+def slow_solutions(order, lines, many):
+    """Solutions, each of so many numbers, of lines that end in their sums: one, and one more for each free number.
+
+    They have in common what all solutions have in common. By plain steps with numbers; none if there is none.
+    """
+    lines, steps = [list(line) for line in lines], {}
+    for at in range(many):
+        first = next((line for line in lines if line[at] != zero(order)), None)
+        if first is not None:
+            lines.remove(first)
+            back = inverse(order, first[at])
+            first = [times(order, one, back) for one in first]
+            for line in [*lines, *steps.values()]:
+                factor = line[at]
+                line[:] = [minus(order, one, times(order, factor, other)) for one, other in zip(line, first)]
+            steps[at] = first
+    if any(line[many] != zero(order) for line in lines):
+        return []
+    found = []
+    for free in [None] + [at for at in range(many) if at not in steps]:
+        extra = zero(order) if free is None else whole(order, 1)
+        items = {free: extra} if free is not None else {}
+        for at, step in steps.items():
+            items[at] = step[many] if free is None else minus(order, step[many], times(order, step[free], extra))
+        found.append(tuple(items.get(at, zero(order)) for at in range(many)))
+    return found
+
+
 def slow_room(rings, places, labels):
     """The room, by the voices that have to be silent."""
     order = order_of(rings)

@@ -233,6 +233,35 @@ class Language(unittest.TestCase):
                     if not isinstance(node.func, ast.Name) or node.func.id in LIBRARY["math"] + LIBRARY["itertools"]:
                         self.fail_at(path, node, "L7")
 
+    def test_products(self):
+        for path, tree in self.each():
+            parents = parents_of(tree)
+            for node in ast.walk(tree):
+                if isinstance(node, ast.Call) and getattr(node.func, "id", "") in ("product", "combinations", "permutations"):
+                    self.assertIsInstance(parents[node], (ast.For, ast.comprehension), f"L2: {path.name}:{node.lineno}")
+                    for arg in node.args:
+                        is_call = isinstance(arg, ast.Call) and getattr(arg.func, "id", "") in ("range", "len", "int", "list")
+                        if not is_call and not isinstance(arg, (ast.Name, ast.Attribute, ast.Constant)):
+                            self.fail_at(path, node, "L2")
+
+    def test_starred_targets(self):
+        for path, tree in self.each():
+            for node in ast.walk(tree):
+                if isinstance(node, ast.Assign) and any(isinstance(part, ast.Starred) for part in ast.walk(node.targets[0])):
+                    self.assertNotIsInstance(node.value, ast.Call, f"L6: {path.name}:{node.lineno}")
+
+    def test_methods_and_attributes(self):
+        for path, tree in self.each():
+            for made in ast.walk(tree):
+                if isinstance(made, ast.ClassDef):
+                    methods = {node.name for node in made.body if isinstance(node, ast.FunctionDef)}
+                    attributes = {node.attr for node in ast.walk(made) if isinstance(node, ast.Attribute)
+                                  and isinstance(node.ctx, ast.Store)}
+                    self.assertFalse(methods & attributes, f"L18: {path.name}")
+                    self.assertFalse(attributes & {"items", "keys", "values", "pop", "update", "append", "clear", "extend",
+                                                   "insert", "remove", "reverse", "setdefault", "sort", "args", "format"},
+                                     f"L26: {path.name}")
+
     def test_sets(self):
         for path, tree in self.each():
             parents = parents_of(tree)
